@@ -2,6 +2,7 @@ package syntax
 
 import (
 	"platformfw/api"
+	"platformfw/grammar"
 	"platformfw/nspath"
 	"platformfw/token"
 )
@@ -84,7 +85,7 @@ func (r *reader) operand(kind byte) bool {
 		if kind == 'e' && len(r.tokens) > 1 && r.tokens[1].Kind == api.TokenOpen {
 			return r.call()
 		}
-		return permitted(kind, api.OpName) && r.name(kind == 's')
+		return grammar.Permitted(kind, api.OpName) && r.name(kind == 's')
 	}
 	return r.literal(kind)
 }
@@ -93,9 +94,9 @@ func (r *reader) operand(kind byte) bool {
 func (r *reader) literal(kind byte) bool {
 	t := r.next()
 	switch {
-	case t.Kind == api.TokenInteger && permitted(kind, api.OpInt):
+	case t.Kind == api.TokenInteger && grammar.Permitted(kind, api.OpInt):
 		r.add(api.Node{Op: api.OpInt, Int: t.Int})
-	case t.Kind == api.TokenString && permitted(kind, api.OpString):
+	case t.Kind == api.TokenString && grammar.Permitted(kind, api.OpString):
 		r.add(api.Node{Op: api.OpString, Str: t.Str})
 	default:
 		return false
@@ -142,20 +143,20 @@ func (r *reader) call() bool {
 func (r *reader) keyword(kind byte) bool {
 	word := r.next().Str
 	if n, ok := variable(word); ok {
-		if !permitted(kind, n.Op) {
+		if !grammar.Permitted(kind, n.Op) {
 			return false
 		}
 		r.add(n)
 		r.skip()
 		return true
 	}
-	op := operator(word)
-	if op == 0 || !permitted(kind, op) {
+	op := grammar.Operator(word)
+	if op == 0 || !grammar.Permitted(kind, op) {
 		return false
 	}
 	at := r.add(api.Node{Op: op})
 	r.skip()
-	_, kinds := form(op)
+	_, kinds := grammar.Form(op)
 	if op == api.OpReturn && r.next().Kind == api.TokenOpen {
 		kinds = "e"
 	}
@@ -174,7 +175,7 @@ func (r *reader) keyword(kind byte) bool {
 // children reads the operands in parentheses, if there are some, and a block.
 func (r *reader) children(kinds string) bool {
 	for i := range len(kinds) {
-		if isBlock(kinds[i]) {
+		if grammar.IsBlock(kinds[i]) {
 			return r.block(kinds[i])
 		}
 		open := api.TokenComma
@@ -184,7 +185,7 @@ func (r *reader) children(kinds string) bool {
 		if !r.take(open) || !r.operand(kinds[i]) {
 			return false
 		}
-		last := i+1 == len(kinds) || isBlock(kinds[i+1])
+		last := i+1 == len(kinds) || grammar.IsBlock(kinds[i+1])
 		if last && !r.take(api.TokenClose) {
 			return false
 		}
@@ -198,7 +199,7 @@ func (r *reader) block(kind byte) bool {
 	}
 	at := r.add(api.Node{Op: api.OpBlock})
 	for !r.take(api.TokenBraceClose) {
-		if isList(kind) && r.nodes[at].Kids > 0 && !r.take(api.TokenComma) {
+		if grammar.IsList(kind) && r.nodes[at].Kids > 0 && !r.take(api.TokenComma) {
 			return false
 		}
 		if !r.element(kind) {

@@ -6,6 +6,7 @@ import (
 	"testing"
 
 	"platformfw/api"
+	"platformfw/grammar"
 	"platformfw/token"
 )
 
@@ -62,7 +63,7 @@ func TestRoundTrip(t *testing.T) {
 		t.Error("white space matters", e)
 	}
 	for op := api.OpAdd; op <= api.OpMid; op++ {
-		word, kinds := form(op)
+		word, kinds := grammar.Form(op)
 		args := strings.Repeat(", X", len(kinds))[2:]
 		src := "Method (M, 0, 0, 0) {\n  Return (" + word + " (" + args + "))\n}\n"
 		p, at, e := Parse(src)

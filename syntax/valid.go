@@ -2,6 +2,7 @@ package syntax
 
 import (
 	"platformfw/api"
+	"platformfw/grammar"
 	"platformfw/nspath"
 	"platformfw/tree"
 )
@@ -13,7 +14,7 @@ func Valid(p []api.Node) bool {
 	}
 	v := validator{p}
 	for at := 0; at < len(p); {
-		if !isDeclaration(p[at].Op) {
+		if !grammar.Permitted('D', p[at].Op) {
 			return false
 		}
 		end, ok := v.node(at, 1)
@@ -36,7 +37,7 @@ func (v validator) node(at, depth int) (int, bool) {
 	if depth > api.MaxDepth || !plain(n) {
 		return 0, false
 	}
-	kinds, ok := kidKinds(n)
+	kinds, ok := grammar.KidKinds(n)
 	if !ok {
 		return 0, false
 	}
@@ -55,10 +56,10 @@ func (v validator) child(at int, kind byte, depth int) (int, bool) {
 		return 0, false
 	}
 	n := v.nodes[at]
-	if isBlock(kind) {
+	if grammar.IsBlock(kind) {
 		return v.block(at, kind, depth)
 	}
-	if !permitted(kind, n.Op) || kind == 's' && !isSegment(n.Str) {
+	if !grammar.Permitted(kind, n.Op) || kind == 's' && !isSegment(n.Str) {
 		return 0, false
 	}
 	return v.node(at, depth)
@@ -71,7 +72,7 @@ func (v validator) block(at int, kind byte, depth int) (int, bool) {
 	}
 	at++
 	for range n.Kids {
-		if at >= len(v.nodes) || !permitted(kind, v.nodes[at].Op) {
+		if at >= len(v.nodes) || !grammar.Permitted(kind, v.nodes[at].Op) {
 			return 0, false
 		}
 		end, ok := v.node(at, depth+1)
@@ -99,29 +100,6 @@ func plain(n api.Node) bool {
 		return n.Int == 0 && ok
 	}
 	return n.Int == 0 && n.Str == ""
-}
-
-// kidKinds returns the kinds of the children that a node must have, given how many it has.
-func kidKinds(n api.Node) (string, bool) {
-	switch n.Op {
-	case api.OpInt, api.OpString, api.OpName, api.OpLocal, api.OpArg:
-		return "", n.Kids == 0
-	case api.OpCall:
-		if n.Kids < 0 || n.Kids > api.MaxArgs {
-			return "", false
-		}
-		return "eeeeeee"[:n.Kids], true
-	case api.OpReturn:
-		if n.Kids == 1 {
-			return "e", true
-		}
-	case api.OpIf:
-		if n.Kids == 3 {
-			return "eSS", true
-		}
-	}
-	word, kinds := form(n.Op)
-	return kinds, word != "" && n.Kids == len(kinds)
 }
 
 func isSegment(s string) bool {

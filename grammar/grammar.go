@@ -1,9 +1,10 @@
-package syntax
+// Package grammar holds the tables of the description language: the source form of each operator and the children that it has.
+package grammar
 
 import "platformfw/api"
 
-// form returns the keyword of an operator and the kinds of its children, as the letters of the chapter's tables. Operators without a keyword have none.
-func form(op int) (string, string) {
+// Form returns the keyword of an operator and the kinds of its children, as the letters of the chapter's tables. Operators without a keyword have none.
+func Form(op int) (string, string) {
 	switch {
 	case op < api.OpStore:
 		return declarationForm(op)
@@ -153,10 +154,10 @@ func binaryKeyword(op int) string {
 	return ""
 }
 
-// operator returns the operator of a keyword, or 0.
-func operator(word string) int {
+// Operator returns the operator of a keyword, or 0.
+func Operator(word string) int {
 	for op := api.OpScope; op <= api.OpMid; op++ {
-		if w, _ := form(op); w == word && w != "" {
+		if w, _ := Form(op); w == word && w != "" {
 			return op
 		}
 	}
@@ -193,8 +194,8 @@ func isExpression(op int) bool {
 	return isData(op) || op >= api.OpAdd && op <= api.OpMid
 }
 
-// permitted tells whether an operator may stand where a kind of child is required. Blocks are asked for by the kind of their elements.
-func permitted(kind byte, op int) bool {
+// Permitted tells whether an operator may stand where a kind of child is required. Blocks are asked for by the kind of their elements.
+func Permitted(kind byte, op int) bool {
 	switch kind {
 	case 'n', 's':
 		return op == api.OpName
@@ -218,8 +219,31 @@ func permitted(kind byte, op int) bool {
 	return false
 }
 
-// isBlock tells whether a kind of child is a block.
-func isBlock(kind byte) bool { return kind >= 'A' && kind <= 'Z' }
+// IsBlock tells whether a kind of child is a block.
+func IsBlock(kind byte) bool { return kind >= 'A' && kind <= 'Z' }
 
-// isList tells whether the elements of a block are separated by commas on one line.
-func isList(kind byte) bool { return kind == 'I' || kind == 'P' }
+// IsList tells whether the elements of a block are separated by commas on one line.
+func IsList(kind byte) bool { return kind == 'I' || kind == 'P' }
+
+// KidKinds returns the kinds of the children that a node must have, given how many it has.
+func KidKinds(n api.Node) (string, bool) {
+	switch n.Op {
+	case api.OpInt, api.OpString, api.OpName, api.OpLocal, api.OpArg:
+		return "", n.Kids == 0
+	case api.OpCall:
+		if n.Kids < 0 || n.Kids > api.MaxArgs {
+			return "", false
+		}
+		return "eeeeeee"[:n.Kids], true
+	case api.OpReturn:
+		if n.Kids == 1 {
+			return "e", true
+		}
+	case api.OpIf:
+		if n.Kids == 3 {
+			return "eSS", true
+		}
+	}
+	word, kinds := Form(n.Op)
+	return kinds, word != "" && n.Kids == len(kinds)
+}
