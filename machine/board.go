@@ -155,12 +155,8 @@ func copyFunctions(l []api.Function) []api.Function {
 func copyBoard(b api.Board) api.Board {
 	c := b
 	c.Functions = copyFunctions(b.Functions)
-	h := &c.Host
-	for _, l := range []*[]api.Range{&h.IO, &h.Mem, &h.High, &h.FixedIO, &h.Fixed} {
-		*l = slices.Clone(*l)
-	}
-	h.Links = slices.Clone(h.Links)
-	h.Routes = slices.Clone(h.Routes)
+	c.Host = api.Host{Buses: b.Host.Buses, IO: slices.Clone(b.Host.IO), Mem: slices.Clone(b.Host.Mem), High: slices.Clone(b.Host.High),
+		FixedIO: slices.Clone(b.Host.FixedIO), Fixed: slices.Clone(b.Host.Fixed), Links: slices.Clone(b.Host.Links), Routes: slices.Clone(b.Host.Routes)}
 	c.Cards = slices.Clone(b.Cards)
 	for i := range c.Cards {
 		c.Cards[i].Functions = copyFunctions(c.Cards[i].Functions)
