@@ -114,7 +114,7 @@ func TestNewPower(t *testing.T) {
 	}
 }
 
-// P44.4: uses, requests and their delivery.
+// P44.4 and P44.7: uses, requests, their delivery, and the view of devices.
 func TestUseRequestDeliver(t *testing.T) {
 	s := newStage(t, boardDevice(0, -1, 10, 0), boardDevice(1, 0, 4))
 	s.expect("not used", s.p.Request(1, "init"), api.ErrState)

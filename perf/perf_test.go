@@ -37,7 +37,7 @@ func TestCheck(t *testing.T) {
 	}
 }
 
-// P36.2 and P36.3: points and transitions.
+// P36.2 to P36.4: points, transitions and their safety.
 func TestFindTransition(t *testing.T) {
 	for f, want := range map[uint64]int{0: 0, 100: 0, 101: 1, 400: 3} {
 		if i, e := Find(table(), f); i != want || e != api.OK {
