@@ -74,3 +74,57 @@ func TestRandomScripts(t *testing.T) {
 		}
 	}
 }
+
+// bootUp presses the power button until the machine runs; planned power losses may need several attempts.
+func (r *rig) bootUp() bool {
+	for range 20 {
+		if r.mode() != api.ModeOff {
+			return true
+		}
+		r.Step(api.Event{Kind: api.EvPowerOn})
+	}
+	return false
+}
+
+// W4: whenever power is lost during hibernation, the next power-on resumes from the complete image or starts with empty memory.
+func TestRandomHibernation(t *testing.T) {
+	resumed, empty := 0, 0
+	for seed := range int64(60) {
+		random := rand.New(rand.NewSource(seed))
+		r := newRig(t, fullBoard(t))
+		for r.bootUp() && resumed+empty < 400 {
+			for range 5 {
+				r.Step(api.Event{Kind: api.EvWrite, B: random.Intn(512), N: uint64(random.Intn(256))})
+			}
+			r.Step(api.Event{Kind: api.EvUse, A: random.Intn(2)})
+			r.Step(api.Event{Kind: api.EvTick, N: 20})
+			saved := string(r.memory)
+			uses := [2]int{r.Snapshot().Devices[0].Usage, r.Snapshot().Devices[1].Usage}
+			keep := make([]bool, 20)
+			for i := range keep {
+				keep[i] = random.Intn(2) == 0
+			}
+			r.Step(api.Event{Kind: api.EvCut, A: 0, N: uint64(random.Intn(20)), Keep: keep})
+			r.Step(api.Event{Kind: api.EvSleep, A: 4})
+			r.steps()
+			if r.mode() != api.ModeOff || !r.bootUp() {
+				break
+			}
+			s := r.Snapshot()
+			if s.Resumed {
+				resumed++
+				if string(r.memory) != saved || uses != [2]int{s.Devices[0].Usage, s.Devices[1].Usage} {
+					t.Fatal("another state was resumed", seed)
+				}
+			} else {
+				empty++
+				if string(r.memory) != string(make([]byte, len(r.memory))) {
+					t.Fatal("the memory is not empty", seed)
+				}
+			}
+		}
+	}
+	if resumed == 0 || empty == 0 {
+		t.Error(resumed, empty)
+	}
+}
